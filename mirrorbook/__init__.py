@@ -1,0 +1,1 @@
+"""Mirrorbook: one table of ranks and its mirror."""

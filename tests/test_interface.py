@@ -1,0 +1,67 @@
+"""The interface: each name stands in its file, with its parameters as they are listed."""
+
+import importlib
+import inspect
+import unittest
+
+from mirrorbook import books
+
+FUNCTIONS = {
+    "fields": {
+        "is_letter": "q, thing",
+        "add": "q, one, other",
+        "subtract": "q, one, other",
+        "times": "q, one, other",
+        "inverse": "q, letter",
+        "word_sum": "q, one, other",
+        "word_times": "q, letter, word",
+        "product": "q, one, other",
+        "support": "q, word",
+        "weight": "q, word",
+    },
+    "books": {
+        "leads": "book",
+        "made": "book, amounts",
+        "words": "book, *, most=4096",
+        "is_word": "book, thing",
+        "judge_word": "book, word",
+        "word_holds": "book, word, thing",
+        "stack_support": "book, stack",
+    },
+}
+
+METHODS = {
+    ("books", "Book"): {
+        "__init__": "self, q, n, rows",
+        "__eq__": "self, other",
+        "__str__": "self",
+        "read": "text",
+    },
+}
+
+
+class Interface(unittest.TestCase):
+    def test_functions(self):
+        for file, functions in FUNCTIONS.items():
+            module = importlib.import_module("mirrorbook." + file)
+            for name, parameters in functions.items():
+                function = getattr(module, name)
+                self.assertTrue(inspect.isfunction(function), name)
+                self.assertEqual(function.__module__, module.__name__, name)
+                self.assertEqual(str(inspect.signature(function)), f"({parameters})", name)
+
+    def test_classes_and_their_own_methods(self):
+        for (file, name), methods in METHODS.items():
+            module = importlib.import_module("mirrorbook." + file)
+            kind = getattr(module, name)
+            self.assertEqual(kind.__module__, module.__name__)
+            for method, parameters in methods.items():
+                self.assertIn(method, vars(kind))
+                self.assertEqual(str(inspect.signature(getattr(kind, method))), f"({parameters})", method)
+
+    def test_read_is_a_class_method(self):
+        self.assertIsInstance(vars(books.Book)["read"], classmethod)
+
+
+if __name__ == "__main__":
+    unittest.main()
