@@ -3,10 +3,10 @@
 from mirrorbook.errors import BadPlaces, BadRows, BadStack, BadText, BadWord, TooMany
 from mirrorbook.fields import check_field
 from mirrorbook.letters import row_product, row_sum, row_times
+from mirrorbook.places import MOST_PLACES
 from mirrorbook.rows import check_rows, lead_of, reduced_rows, sum_of_rows
 from mirrorbook.values import is_integer_from, is_row, is_two
 
-MOST_PLACES = 8
 MOST_ROWS = 16
 
 
@@ -31,9 +31,7 @@ class Book:
         return isinstance(other, Book) and self.q == other.q and self.n == other.n and self.rows == other.rows
 
     def __str__(self):
-        head = f"book {self.q} {self.n}"
-        lines = [" ".join([str(letter) for letter in row]) for row in self.rows]
-        return "\n".join([head] + lines)
+        return "\n".join([f"book {self.q} {self.n}"] + [row_text(row) for row in self.rows])
 
     @classmethod
     def read(cls, text):
@@ -52,6 +50,11 @@ class Book:
                 raise BadText(at + 2)
             rows.append(row)
         return cls(q, n, tuple(rows))
+
+
+def row_text(row):
+    """The line of a row in a text."""
+    return " ".join([str(letter) for letter in row])
 
 
 def read_head(line):
@@ -160,4 +163,4 @@ def stack_support(book, stack):
     for number, word in enumerate(stack):
         if not is_word(book, word):
             raise BadStack(number)
-    return tuple([place for place in range(book.n) if any([word[place] != 0 for word in stack])])
+    return tuple([place for place in range(book.n) if any([item[place] != 0 for item in stack])])

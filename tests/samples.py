@@ -98,6 +98,10 @@ def is_places(n, thing):
     return is_letters(n, thing) and list(thing) == sorted(set(thing))
 
 
+def unit_rows(n):
+    return tuple(tuple(int(i == j) for j in range(n)) for i in range(n))
+
+
 def random_rows(random, q, n, many):
     """Rows of which some are doubled, zero, sums of others or zero at a place."""
     blank = random.randrange(n)
@@ -123,7 +127,7 @@ def sample_books(seed, most_places=4, each=2):
     for q in (2, 3, 4, 5):
         for n in range(1, most_places + 1):
             found.append((q, n, ()))
-            found.append((q, n, tuple(tuple(int(i == j) for j in range(n)) for i in range(n))))
+            found.append((q, n, unit_rows(n)))
             for _ in range(each):
                 found.append((q, n, random_rows(random, q, n, random.randrange(1, n + 2))))
     return found

@@ -6,7 +6,7 @@ from random import Random
 from mirrorbook.books import Book, is_word, judge_word, leads, made, stack_support, word_holds, words
 from mirrorbook.errors import BadField, BadPlaces, BadRows, BadStack, BadWord, TooMany
 from tests import brute
-from tests.samples import Case, any_values, is_int, is_letters, others, random_rows, sample_books
+from tests.samples import GREAT, Case, any_values, is_int, is_letters, others, random_rows, sample_books, unit_rows
 
 E = Book(2, 3, ((1, 1, 0), (0, 1, 1)))
 
@@ -35,7 +35,7 @@ class ReducedRows(Case):
 
     def test_eight_places(self):
         for q in (2, 3, 4, 5):
-            unit = tuple(tuple(int(i == j) for j in range(8)) for i in range(8))
+            unit = unit_rows(8)
             mixed = tuple(tuple(0 if j < i else 1 + (i + j) % (q - 1) for j in range(8)) for i in range(8))
             self.assert_same(Book(q, 8, mixed).rows, unit)
             self.assert_same(Book(q, 8, tuple(reversed(mixed)) + unit).rows, unit)
@@ -127,7 +127,7 @@ class WordsOfBooks(Case):
 
     def test_made_of_wrong_amounts(self):
         for q, k in ((2, 0), (2, 2), (3, 1), (4, 2), (5, 3)):
-            book = Book(q, 3, tuple(tuple(int(i == j) for j in range(3)) for i in range(k)))
+            book = Book(q, 3, unit_rows(3)[:k])
             for amounts in [(q,) * k or (0,), (0,) * (k + 1), *others(fits_row(q, k))]:
                 self.assert_error(BadWord(amounts), made, book=book, amounts=amounts)
 
@@ -138,7 +138,7 @@ class WordsOfBooks(Case):
             wanted = tuple(sorted(brute.span(q, n, rows)))
             self.assert_same(words(book, most=many), wanted)
             self.assert_same(words(book, most=many + 1), wanted)
-            self.assert_same(words(book=book, most=GREAT_MOST), wanted)
+            self.assert_same(words(book=book, most=GREAT), wanted)
             for most in (0, many // 2, many - 1):
                 self.assert_raised(TooMany(most), lambda: words(book, most=most))
                 self.assert_raised(TooMany(most), lambda: words(book=book, most=most))
@@ -149,7 +149,7 @@ class WordsOfBooks(Case):
 
     def test_most_left_out(self):
         for q, k in ((2, 8), (3, 7), (4, 6), (5, 5)):
-            unit = tuple(tuple(int(i == j) for j in range(8)) for i in range(8))
+            unit = unit_rows(8)
             found = words(Book(q, 8, unit[8 - k :]))
             self.assertEqual(found, tuple((0,) * (8 - k) + word for word in brute.all_words(q, k)))
             if q > 2:
@@ -297,8 +297,6 @@ class Examples(Case):
         self.assert_same(Book(4, 3, ((2, 3, 1),)).rows, ((1, 2, 3),))
         self.assert_same(stack_support(E, ((1, 0, 1), (0, 0, 0), (1, 1, 0))), (0, 1, 2))
 
-
-GREAT_MOST = 10**40
 
 if __name__ == "__main__":
     unittest.main()

@@ -1,0 +1,66 @@
+"""Places from 0 to n - 1, sets of them, orders of them."""
+
+from mirrorbook.errors import BadOrder, BadPlace, BadPlaces, BadSet
+from mirrorbook.values import are_integers_from, is_integer_from
+
+MOST_PLACES = 8
+
+
+def is_set(n, thing):
+    """Whether any value is a set of n places: an ascending tuple of them."""
+    if not are_integers_from(thing, 0, n - 1):
+        return False
+    return all([thing[at] < thing[at + 1] for at in range(len(thing) - 1)])
+
+
+def is_order(n, thing):
+    """Whether any value is a tuple that has each of n places once."""
+    return are_integers_from(thing, 0, n - 1) and sorted(thing) == list(range(n))
+
+
+def check_set(n, places):
+    if not is_set(n, places):
+        raise BadSet(places)
+
+
+def check_place(n, place):
+    if not is_integer_from(place, 0, n - 1):
+        raise BadPlace(place)
+
+
+def check_order(n, order):
+    if not is_order(n, order):
+        raise BadOrder(order)
+
+
+def check_many_places(n):
+    """Raises an error if a book or a table that is made would have too many places."""
+    if n > MOST_PLACES:
+        raise BadPlaces(n)
+
+
+def rest_of(n, places):
+    """The set of all other places."""
+    return tuple([place for place in range(n) if place not in places])
+
+
+def kept_places(n, places):
+    """The places that are kept if a set is left out, which cannot be the set of all places."""
+    check_set(n, places)
+    if len(places) == n:
+        raise BadSet(places)
+    return rest_of(n, places)
+
+
+def picked(row, places):
+    """The items of the row at these places."""
+    return tuple([row[place] for place in places])
+
+
+def in_order(sets):
+    """The tuple of the sets, shorter ones first, those of the same length as Python compares them."""
+    return tuple(sorted(sets, key=size_and_places))
+
+
+def size_and_places(places):
+    return (len(places), places)
