@@ -3,7 +3,7 @@
 from mirrorbook.books import Book, is_word
 from mirrorbook.errors import BadWord, OtherFields, OtherPlaces
 from mirrorbook.letters import letter_times
-from mirrorbook.places import check_many_places, check_order, check_place, kept_places, picked
+from mirrorbook.places import check_order, check_place, kept_places, picked
 from mirrorbook.rows import check_rows
 from mirrorbook.values import is_row
 
@@ -28,17 +28,15 @@ def fixed(book, places):
 def beside(one, other):
     """All words of the first book, each of them followed by each word of the second one."""
     check_fields(one, other)
-    n = one.n + other.n
-    check_many_places(n)
     ahead = [row + (0,) * other.n for row in one.rows]
     behind = [(0,) * one.n + row for row in other.rows]
-    return Book(one.q, n, tuple(ahead + behind))
+    # No book has more than eight places: Book itself refuses them, here and in what follows.
+    return Book(one.q, one.n + other.n, tuple(ahead + behind))
 
 
 def repeated(book, place):
     """Each word of the book followed by its letter at the place."""
     check_place(book.n, place)
-    check_many_places(book.n + 1)
     return Book(book.q, book.n + 1, tuple([row + (row[place],) for row in book.rows]))
 
 
@@ -73,8 +71,7 @@ def sum_of(one, other):
 
 def common(one, other):
     """All words that are in both books."""
-    check_fields_and_places(one, other)
-    # The mirror of a sum is the common book of the mirrors.
+    # The mirror of a sum is the common book of the mirrors; the sum refuses unlike books.
     return mirror(sum_of(mirror(one), mirror(other)))
 
 

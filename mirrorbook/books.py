@@ -80,8 +80,9 @@ def is_next_row(rows, row):
     letters = [letter for letter in row if letter != 0]
     if not letters or letters[0] != 1:
         return False
+    # A row whose lead comes after all earlier ones has 0 at these.
     lead = lead_of(row)
-    return all([lead_of(other) < lead and other[lead] == 0 and row[lead_of(other)] == 0 for other in rows])
+    return all([lead_of(other) < lead and other[lead] == 0 for other in rows])
 
 
 def leads(book):

@@ -1,7 +1,7 @@
 """Places from 0 to n - 1, sets of them, orders of them."""
 
-from mirrorbook.errors import BadOrder, BadPlace, BadPlaces, BadSet
-from mirrorbook.values import are_integers_from, is_integer_from
+from mirrorbook.errors import BadOrder, BadPlace, BadSet
+from mirrorbook.values import are_integers, are_integers_from, is_integer_from
 
 MOST_PLACES = 8
 
@@ -15,7 +15,7 @@ def is_set(n, thing):
 
 def is_order(n, thing):
     """Whether any value is a tuple that has each of n places once."""
-    return are_integers_from(thing, 0, n - 1) and sorted(thing) == list(range(n))
+    return are_integers(thing) and sorted(thing) == list(range(n))
 
 
 def check_set(n, places):
@@ -31,12 +31,6 @@ def check_place(n, place):
 def check_order(n, order):
     if not is_order(n, order):
         raise BadOrder(order)
-
-
-def check_many_places(n):
-    """Raises an error if a book or a table that is made would have too many places."""
-    if n > MOST_PLACES:
-        raise BadPlaces(n)
 
 
 def rest_of(n, places):

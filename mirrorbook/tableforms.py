@@ -1,7 +1,7 @@
 """Tables made of tables, kinds of sets, pieces."""
 
-from mirrorbook.errors import BadPlace
-from mirrorbook.places import check_many_places, check_order, check_place, check_set, in_order, is_set, kept_places
+from mirrorbook.errors import BadPlace, BadPlaces
+from mirrorbook.places import MOST_PLACES, check_order, check_place, check_set, in_order, is_set, kept_places
 from mirrorbook.tables import check_table, count_places, has_place, set_number, set_of, with_place
 from mirrorbook.values import is_two
 
@@ -38,6 +38,12 @@ def table_fixed(table, places):
     kept = kept_places(count_places(table), places)
     base = set_number(places)
     return tuple([table[base | old_number(kept, number)] - table[base] for number in range(1 << len(kept))])
+
+
+def check_many_places(n):
+    """Raises an error if a table that is made would have too many places."""
+    if n > MOST_PLACES:
+        raise BadPlaces(n)
 
 
 def tables_beside(one, other):

@@ -102,8 +102,9 @@ def fault_holds(ranks, thing):
     if not isinstance(thing, tuple) or len(thing) < 3 or not is_set(n, thing[1]):
         return False
     new = thing[2:]
-    if not are_integers_from(new, 0, n - 1) or any([place in thing[1] for place in new]):
+    if not are_integers_from(new, 0, n - 1):
         return False
+    # A place that is in the set already makes no fault, since the set stays as it is.
     number = set_number(thing[1])
     if thing[0] == "step" and len(new) == 1:
         return is_step_fault(ranks, number, new[0])
