@@ -109,7 +109,7 @@ def words(book, *, most=4096):
     """The ascending tuple of all words of the book."""
     if count_words(book) > most:
         raise TooMany(most)
-    # The amounts ascend like their words, since they stand in these at the leads.
+    # A word has its amounts at the leads, so the words ascend as their amounts do.
     found = [(0,) * book.n]
     for row in book.rows:
         parts = [row_times(book.q, letter, row) for letter in range(book.q)]
