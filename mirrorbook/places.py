@@ -1,16 +1,28 @@
 """Places from 0 to n - 1, sets of them, orders of them."""
 
+from itertools import combinations
+
 from mirrorbook.errors import BadOrder, BadPlace, BadSet
-from mirrorbook.values import are_integers, are_integers_from, is_integer_from
+from mirrorbook.values import are_integers, are_integers_from, is_ascending, is_integer_from
 
 MOST_PLACES = 8
 
 
 def is_set(n, thing):
     """Whether any value is a set of n places: an ascending tuple of them."""
-    if not are_integers_from(thing, 0, n - 1):
+    return are_integers_from(thing, 0, n - 1) and is_ascending(thing)
+
+
+def is_set_of_size(n, size, thing):
+    """Whether any value is a set of so many of n places."""
+    return is_set(n, thing) and len(thing) == size
+
+
+def are_sets(n, thing):
+    """Whether any value is a tuple of sets of n places, in order, none of them twice."""
+    if not isinstance(thing, tuple) or not all([is_set(n, item) for item in thing]):
         return False
-    return all([thing[at] < thing[at + 1] for at in range(len(thing) - 1)])
+    return is_ascending([size_and_places(places) for places in thing])
 
 
 def is_order(n, thing):
@@ -38,6 +50,11 @@ def rest_of(n, places):
     return tuple([place for place in range(n) if place not in places])
 
 
+def sets_of_size(n, size):
+    """All sets of so many of n places, in order."""
+    return list(combinations(range(n), size))
+
+
 def kept_places(n, places):
     """The places that are kept if a set is left out, which cannot be the set of all places."""
     check_set(n, places)
@@ -58,3 +75,13 @@ def in_order(sets):
 
 def size_and_places(places):
     return (len(places), places)
+
+
+def lies_within(places, others):
+    """Whether all places of a set are in another one."""
+    return all([place in others for place in places])
+
+
+def are_apart(places, others):
+    """Whether two sets have no place in common."""
+    return not any([place in others for place in places])

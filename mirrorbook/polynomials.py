@@ -40,6 +40,14 @@ def plus(one, other):
     return trimmed(tuple([first + second for first, second in zip(left, right)]))
 
 
+def sum_of_all(polynomials):
+    """The sum of any number of polynomials."""
+    found = ()
+    for one in polynomials:
+        found = plus(found, one)
+    return found
+
+
 def minus(one, other):
     """One polynomial minus the other."""
     check_two_polynomials(one, other)
@@ -97,3 +105,8 @@ def lowest_terms(top, bottom):
     """The number that is equal to top over bottom, without a common divisor."""
     shared = gcd(top, bottom)
     return (top // shared, bottom // shared)
+
+
+def sign(many):
+    """1 for an even number, minus 1 for an odd one."""
+    return 1 - 2 * (many % 2)

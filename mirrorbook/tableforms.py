@@ -2,15 +2,14 @@
 
 from mirrorbook.errors import BadPlace, BadPlaces
 from mirrorbook.places import MOST_PLACES, check_order, check_place, check_set, in_order, is_set, kept_places
-from mirrorbook.tables import check_table, count_places, has_place, set_number, set_of, with_place
+from mirrorbook.tables import check_table, count_places, has_place, rest_number, set_number, set_of, with_place
 from mirrorbook.values import is_two
 
 
 def mirror_table(table):
     """The mirror of the table: size of a set plus rank of its rest minus full rank."""
     check_table(table)
-    every = len(table) - 1
-    return tuple([len(set_of(number)) + table[every ^ number] - table[every] for number in range(len(table))])
+    return tuple([len(set_of(number)) - hold_at(table, number) for number in range(len(table))])
 
 
 def old_number(olds, number):
@@ -77,11 +76,13 @@ def checked_number(table, places):
     return set_number(places)
 
 
+def hold_at(table, number):
+    return table[-1] - table[rest_number(table, number)]
+
+
 def hold(table, places):
     """The full rank less the rank of all other places."""
-    number = checked_number(table, places)
-    every = len(table) - 1
-    return table[every] - table[every ^ number]
+    return hold_at(table, checked_number(table, places))
 
 
 def closure_of(table, number):
@@ -107,7 +108,7 @@ def is_closed_at(table, number):
 
 
 def is_cover_at(table, number):
-    return is_closed_at(table, (len(table) - 1) ^ number)
+    return is_closed_at(table, rest_number(table, number))
 
 
 def is_base_at(table, number):
@@ -161,8 +162,7 @@ def covers(table):
 
 def does_part(table, number):
     """Whether the ranks of a set and of its rest add up to the full rank."""
-    every = len(table) - 1
-    return table[number] + table[every ^ number] == table[every]
+    return table[number] == hold_at(table, number)
 
 
 def piece_with(table, place):

@@ -32,6 +32,11 @@ def with_place(number, place):
     return number | (1 << place)
 
 
+def rest_number(table, number):
+    """The number of the rest of a set of places of a table."""
+    return (len(table) - 1) ^ number
+
+
 def check_ranks(ranks):
     if not are_integers(ranks) or len(ranks) not in SIZES:
         raise BadTable(ranks)

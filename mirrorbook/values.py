@@ -34,3 +34,8 @@ def is_row(q, n, thing):
 def is_two(thing):
     """Whether any value is a tuple of two items, as most papers are."""
     return isinstance(thing, tuple) and len(thing) == 2
+
+
+def is_ascending(items):
+    """Whether each of the items is less than the next one."""
+    return all([items[at] < items[at + 1] for at in range(len(items) - 1)])

@@ -90,6 +90,11 @@ def uniform(n, k):
     return as_ranks(n, lambda places: min(len(places), k))
 
 
+def beside(one, other):
+    """The table in which the rank of a set is the sum of the ranks of its two parts."""
+    return tuple(ahead + behind for behind in other for ahead in one)
+
+
 def bookless():
     """A table of eight places that no book has over any field (P. Vamos)."""
     flat = ((0, 1, 2, 3), (0, 1, 4, 5), (0, 1, 6, 7), (2, 3, 4, 5), (2, 3, 6, 7))

@@ -146,6 +146,28 @@ def same(one, other):
     return one == other
 
 
+def changes(thing):
+    """The value with one part, at any depth, replaced, left out, doubled or exchanged with the next one."""
+    for new in any_values():
+        yield new
+    if is_int(thing):
+        yield thing + 1
+        yield thing - 1
+        yield bool(thing)
+    if isinstance(thing, tuple):
+        yield list(thing)
+        yield (thing,)
+        yield thing + (thing,)
+        yield thing + ((),)
+        for at, part in enumerate(thing):
+            ahead, behind = thing[:at], thing[at + 1 :]
+            yield ahead + behind
+            yield ahead + (part, part) + behind
+            yield ahead + behind[:1] + (part,) + behind[1:]
+            for new in changes(part):
+                yield ahead + (new,) + behind
+
+
 class Case(unittest.TestCase):
     def assert_same(self, found, wanted):
         self.assertTrue(same(found, wanted), f"{found!r} is not {wanted!r}")
@@ -163,6 +185,19 @@ class Case(unittest.TestCase):
         self.assert_raised(wanted, lambda: call(*named.values()), named)
         self.assert_raised(wanted, lambda: call(**named), named)
         self.assert_same(named, before)
+
+    def assert_errors(self, call, right, checks):
+        """Each wrong argument raises its error ahead of the later ones, whether these are right or wrong.
+
+        The arguments that are right stand by name; the checks are triples (name, error, wrong values), in order.
+        """
+        for at, (name, error, wrong) in enumerate(checks):
+            for number, thing in enumerate(wrong):
+                given = {**right, name: thing}
+                self.assert_error(error(thing), call, **given)
+                for other, _, values in checks[at + 1 :]:
+                    given[other] = values[number % len(values)]
+                    self.assert_error(error(thing), call, **given)
 
     def assert_raised(self, wanted, run, told=None):
         try:

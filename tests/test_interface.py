@@ -82,6 +82,41 @@ FUNCTIONS = {
         "value": "one, integer",
         "value_at": "one, number",
     },
+    "counts": {
+        "count_within": "table, places",
+        "count_of": "table, places",
+        "count_over": "table, places",
+        "weights": "table",
+        "weights_at": "table, integer",
+        "rank_counts": "table",
+        "subcounts": "q, polynomial",
+        "cover_number": "table, places, b",
+        "weight_over": "table, weight, places",
+        "balance": "table, weight",
+        "told_balance": "table",
+        "judge_balance": "table, weight, t",
+        "balance_holds": "table, weight, t, thing",
+    },
+    "turning": {
+        "turned_weights": "counts",
+        "ranks_of_weights": "counts",
+        "weights_of_ranks": "rows",
+        "turned_ranks": "rows",
+    },
+    "ladders": {
+        "ladder": "table",
+        "least_ranks": "table",
+        "greatest_holds": "table",
+        "mirror_ladder": "n, steps",
+        "least_sets": "table, j",
+        "gap": "table, q",
+    },
+    "ladderpapers": {
+        "judge_reach": "table, j, size",
+        "reach_holds": "table, j, size, thing",
+        "judge_chain": "table",
+        "chain_holds": "table, thing",
+    },
 }
 
 METHODS = {
