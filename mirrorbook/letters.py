@@ -47,3 +47,11 @@ def row_product(q, one, other):
 def row_support(row):
     """The places with a letter that is not 0."""
     return tuple([place for place in range(len(row)) if row[place] != 0])
+
+
+def letter_tuples(q, many):
+    """All tuples of so many letters, ascending."""
+    found = [()]
+    for _ in range(many):
+        found = [some + (letter,) for some in found for letter in range(q)]
+    return found

@@ -68,6 +68,14 @@ def picked(row, places):
     return tuple([row[place] for place in places])
 
 
+def placed(items, places):
+    """The row that has these items at these places, which are all places of the row."""
+    found = list(items)
+    for item, place in zip(items, places):
+        found[place] = item
+    return tuple(found)
+
+
 def in_order(sets):
     """The tuple of the sets, shorter ones first, those of the same length as Python compares them."""
     return tuple(sorted(sets, key=size_and_places))

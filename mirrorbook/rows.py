@@ -8,6 +8,11 @@ def lead_of(row):
     return row_support(row)[0]
 
 
+def end_of(row):
+    """The last place with a letter that is not 0, of a row that has one."""
+    return row_support(row)[-1]
+
+
 def with_zero_at(q, place, row, head):
     """The row, less as many times head as makes its letter at the place 0; head has 1 there."""
     return row_sum(q, row, row_times(q, letter_negative(q, row[place]), head))
@@ -48,3 +53,15 @@ def sum_of_rows(q, n, amounts, rows):
     for amount, row in zip(amounts, rows):
         total = row_sum(q, total, row_times(q, amount, row))
     return total
+
+
+def rows_with_unlike_ends(q, rows):
+    """Rows that make the same book and have the same ascending leads as these ones, and no two the same end."""
+    done = []
+    for row in reversed(rows):
+        left = row
+        # What is added has later leads, so the lead stays; ends are cleared from the last one on for good.
+        for head in sorted(done, key=end_of, reverse=True):
+            left = with_zero_at(q, end_of(head), left, head)
+        done.append(row_times(q, letter_inverse(q, left[end_of(left)]), left))
+    return tuple(reversed(done))

@@ -36,6 +36,13 @@ def is_two(thing):
     return isinstance(thing, tuple) and len(thing) == 2
 
 
+def are_tuples(lengths, thing):
+    """Whether any value is a tuple of tuples of these lengths."""
+    if not isinstance(thing, tuple) or not all([isinstance(row, tuple) for row in thing]):
+        return False
+    return [len(row) for row in thing] == list(lengths)
+
+
 def is_ascending(items):
     """Whether each of the items is less than the next one."""
     return all([items[at] < items[at + 1] for at in range(len(items) - 1)])

@@ -10,6 +10,11 @@ def plus(q, a, b):
     return FOUR_SUM[a][b] if q == 4 else (a + b) % q
 
 
+def minus(q, a):
+    """The letter whose sum with a is 0."""
+    return [b for b in range(q) if plus(q, a, b) == 0][0]
+
+
 def times(q, a, b):
     return FOUR_TIMES[a][b] if q == 4 else a * b % q
 

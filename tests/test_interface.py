@@ -117,6 +117,37 @@ FUNCTIONS = {
         "judge_chain": "table",
         "chain_holds": "table, thing",
     },
+    "cuts": {
+        "cuts": "table, order",
+        "cut_bounds": "table",
+        "spans": "table, order",
+        "starts": "table, order",
+        "ends": "table, order",
+    },
+    "readers": {
+        "span_rows": "book, order",
+        "are_span_rows": "book, order, thing",
+        "is_reader": "thing",
+        "reader_of": "book, order",
+        "does_accept": "reader, thing",
+        "accepted": "reader, *, most=4096",
+        "live_rooms": "reader",
+        "weights_along": "reader",
+        "reduced_reader": "reader",
+        "judge_reader": "book, order, reader",
+        "reader_holds": "book, order, reader, thing",
+        "judge_least": "reader",
+        "least_holds": "reader, thing",
+    },
+    "orders": {
+        "best_order": "table",
+        "best_load": "table",
+        "smooth_order": "table",
+        "judge_narrow": "table, m",
+        "narrow_holds": "table, m, thing",
+        "judge_short": "table, m",
+        "short_holds": "table, m, thing",
+    },
 }
 
 METHODS = {
