@@ -1,8 +1,7 @@
 """Polynomials: tuples of integers, the constant coefficient first, the last one not 0."""
 
-from math import gcd
-
 from mirrorbook.errors import BadPolynomial
+from mirrorbook.ratios import lowest_terms
 from mirrorbook.values import are_integers
 
 
@@ -99,12 +98,6 @@ def value_at(one, number):
         scale = scale * bottom
     # The scale has a factor for each coefficient, which is one more than the degree.
     return lowest_terms(total * bottom, scale)
-
-
-def lowest_terms(top, bottom):
-    """The number that is equal to top over bottom, without a common divisor."""
-    shared = gcd(top, bottom)
-    return (top // shared, bottom // shared)
 
 
 def sign(many):

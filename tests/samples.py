@@ -6,6 +6,7 @@ from random import Random
 
 from mirrorbook import errors
 from mirrorbook.books import Book
+from mirrorbook.pairs import Pair
 
 GREAT = 10**39 + 7
 
@@ -76,6 +77,8 @@ def any_values():
         (nested(11, True), 0),
         Book(2, 3, ((1, 1, 0), (0, 1, 1))),
         (Book(5, 1, ()), 0),
+        Pair(Book(3, 3, ((1, 0, 2), (0, 1, 2))), Book(3, 3, ((1, 1, 1),))),
+        [Pair(Book(2, 1, ((1,),)), Book(2, 1, ()))],
         errors.BadSet((0,)),
         errors.NoMessage(),
     ]

@@ -27,6 +27,15 @@ SPECIAL = {"__init__", "__eq__", "__str__"}
 # A class of the package has an `__eq__`, so `any`, `all`, `sum` and the like take lists.
 BARRED_NODES = (ast.GeneratorExp, ast.Global, ast.AsyncFunctionDef, ast.AsyncFor, ast.Await, ast.Div, ast.MatMult)
 BARRED_NAMES = set("register mro elements open input law version_info with_traceback add_note".split())
+BARRED_WORDS = (
+    "type typing typing_extensions enum Enum IntEnum StrEnum Flag IntFlag Generic Protocol ABC ABCMeta namedtuple"
+    " NamedTuple TypedDict TYPE_CHECKING abstractmethod dataclass overload contextmanager"
+).split()
+DOCUMENTED = (ast.Module, ast.FunctionDef, ast.ClassDef)
+# What is made on the spot, and what takes it there.
+AT_ONCE = {"range", "zip", "enumerate", "reversed", "map"}
+TAKERS = set("list tuple dict sorted sum any all enumerate zip min max reversed len product combinations".split())
+CHANGING = {"append", "clear", "extend", "insert", "pop", "remove", "reverse", "setdefault", "update", "sort"}
 
 
 def files():
@@ -54,6 +63,10 @@ def bound_names(function):
         if isinstance(node, ast.Name) and isinstance(node.ctx, ast.Store):
             found.add(node.id)
     return found
+
+
+def named(node):
+    return node.id if isinstance(node, ast.Name) else None
 
 
 class Files(unittest.TestCase):
@@ -92,6 +105,56 @@ class Files(unittest.TestCase):
                 elif isinstance(node, (ast.FunctionDef, ast.ClassDef)):
                     bound.append(node.name)
             self.assertEqual(len(bound), len(set(bound)), name)
+
+
+class Classes(unittest.TestCase):
+    def test_no_name_is_a_method_and_an_attribute(self):
+        for name, node in nodes(ast.ClassDef):
+            methods = {part.name for part in node.body if isinstance(part, ast.FunctionDef)}
+            own = {
+                part.attr for part in ast.walk(node) if isinstance(part, ast.Attribute) and named(part.value) == "self"
+            }
+            stored = {
+                part.attr
+                for part in ast.walk(node)
+                if isinstance(part, ast.Attribute) and isinstance(part.ctx, ast.Store)
+            }
+            self.assertFalse(methods & stored, (name, node.name))
+            self.assertLessEqual(own, methods | stored, (name, node.name))
+
+    def test_attributes_are_assigned_by_some_class(self):
+        stored = {node.attr for _, node in nodes(ast.Attribute) if isinstance(node.ctx, ast.Store)}
+        known = stored | BUILTIN_METHODS | {node.name for _, node in nodes(ast.FunctionDef)} | {"__init__"}
+        for name, node in nodes(ast.Attribute):
+            self.assertIn(node.attr, known, (name, node.lineno))
+
+    def test_comparing_and_showing_change_nothing(self):
+        for name, node in nodes(ast.FunctionDef):
+            if node.name in ("__eq__", "__str__"):
+                self.assertIsInstance(node.body[-1], ast.Return, name)
+                for part in ast.walk(node):
+                    self.assertNotIsInstance(part, (ast.Assign, ast.AugAssign, ast.Delete), (name, node.lineno))
+                    if isinstance(part, ast.Attribute):
+                        self.assertNotIn(part.attr, CHANGING, (name, node.lineno))
+
+    def test_classes_are_not_kept(self):
+        classes = {node.name for _, node in nodes(ast.ClassDef)}
+        for name, tree in trees():
+            fit = set()
+            for node in ast.walk(tree):
+                if isinstance(node, ast.Call):
+                    fit.add(node.func)
+                    if named(node.func) == "isinstance":
+                        fit.add(node.args[1])
+                elif isinstance(node, ast.ClassDef):
+                    fit.update(node.bases)
+                elif isinstance(node, ast.ExceptHandler):
+                    fit.add(node.type)
+                elif isinstance(node, ast.Attribute):
+                    fit.add(node.value)
+            for node in ast.walk(tree):
+                if named(node) in classes:
+                    self.assertIn(node, fit, (name, node.lineno))
 
 
 class Imports(unittest.TestCase):
@@ -217,6 +280,70 @@ class Statements(unittest.TestCase):
                         self.assertNotIn(getattr(part.func.value, "id", None), held, (name, node.lineno))
                 if isinstance(part, ast.Subscript) and isinstance(part.ctx, (ast.Store, ast.Del)):
                     self.assertNotIn(getattr(part.value, "id", None), held, (name, node.lineno))
+
+    def test_what_is_made_on_the_spot_is_iterated_there(self):
+        for name, tree in trees():
+            fit = set()
+            for node in ast.walk(tree):
+                if isinstance(node, (ast.For, ast.comprehension)):
+                    fit.add(node.iter)
+                elif isinstance(node, ast.Call) and isinstance(node.func, ast.Name) and node.func.id in TAKERS:
+                    fit.update(node.args)
+                elif isinstance(node, ast.Call) and isinstance(node.func, ast.Attribute) and node.func.attr == "join":
+                    self.assertIsInstance(node.func.value, ast.Constant, (name, node.lineno))
+                    fit.update(node.args)
+                elif isinstance(node, ast.Compare) and isinstance(node.ops[0], (ast.In, ast.NotIn)):
+                    fit.update(node.comparators)
+                elif isinstance(node, ast.Assign) and isinstance(node.value, ast.Call):
+                    if isinstance(node.value.func, ast.Name) and node.value.func.id in ("range", "map"):
+                        fit.add(node.value)
+            for node in ast.walk(tree):
+                if isinstance(node, ast.Call) and isinstance(node.func, ast.Name) and node.func.id in AT_ONCE:
+                    self.assertIn(node, fit, (name, node.lineno))
+                elif isinstance(node, ast.Call) and isinstance(node.func, ast.Attribute):
+                    if node.func.attr in ("items", "keys", "values"):
+                        self.assertIn(node, fit, (name, node.lineno))
+
+    def test_stars_stand_before_names_alone(self):
+        for name, node in nodes(ast.Call):
+            for part in node.args:
+                if isinstance(part, ast.Starred):
+                    self.assertIsInstance(part.value, (ast.Name, ast.Attribute), (name, node.lineno))
+            for part in node.keywords:
+                self.assertIsNotNone(part.arg, (name, node.lineno))
+
+    def test_lambdas_stand_alone_on_their_lines(self):
+        lines = [(name, node.lineno) for name, node in nodes(ast.Lambda)]
+        self.assertEqual(len(lines), len(set(lines)))
+
+    def test_methods_of_values_are_called_without_keywords(self):
+        for name, node in nodes(ast.Call):
+            if isinstance(node.func, ast.Attribute) and node.func.attr in BUILTIN_METHODS:
+                self.assertEqual(node.keywords, [], (name, node.lineno))
+
+    def test_words_that_do_not_occur(self):
+        for name, tree in trees():
+            docstrings = [ast.get_docstring(node, False) for node in ast.walk(tree) if isinstance(node, DOCUMENTED)]
+            for node in ast.walk(tree):
+                text = {ast.Name: "id", ast.Attribute: "attr", ast.arg: "arg", ast.Constant: "value"}.get(type(node))
+                found = getattr(node, text) if text else ""
+                if isinstance(found, str) and found not in docstrings:
+                    self.assertFalse(set(re.findall("[A-Za-z_]+", found)) & set(BARRED_WORDS), (name, found))
+
+    def test_sets_are_stored_nowhere(self):
+        for name, node in nodes((ast.Assign, ast.Return)):
+            self.assertNotIsInstance(node.value, (ast.Set, ast.SetComp), (name, node.lineno))
+
+    def test_library_names_are_called_by_position(self):
+        for name, tree in trees():
+            taken = set()
+            for node in tree.body:
+                if isinstance(node, ast.ImportFrom) and node.module in LIBRARY:
+                    taken |= {alias.name for alias in node.names}
+            called = [node for node in ast.walk(tree) if isinstance(node, ast.Call) and named(node.func) in taken]
+            self.assertTrue(all(not node.keywords for node in called), name)
+            used = [node for node in ast.walk(tree) if isinstance(node, ast.Name) and node.id in taken]
+            self.assertEqual(len(used), len(called), name)
 
     def test_views_and_ranges_are_iterated_at_once(self):
         for name, node in nodes((ast.Assign, ast.Return)):

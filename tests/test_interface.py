@@ -4,7 +4,7 @@ import importlib
 import inspect
 import unittest
 
-from mirrorbook import books
+from mirrorbook import books, pairs
 
 FUNCTIONS = {
     "fields": {
@@ -148,11 +148,59 @@ FUNCTIONS = {
         "judge_short": "table, m",
         "short_holds": "table, m, thing",
     },
+    "chances": {
+        "return_poly": "table",
+        "known_poly": "table",
+        "free_poly": "table",
+        "doubt_poly": "table, place",
+        "turning_poly": "table, place",
+        "return_chance": "table, chances",
+        "known_amount": "table, chances",
+        "doubt_chance": "table, place, chances",
+        "area": "polynomial",
+        "swapped": "polynomial",
+        "half_point": "table, bits",
+    },
+    "roots": {
+        "parts_of": "polynomial",
+        "many_roots": "polynomial, low, high",
+        "corners": "polynomial, low, high",
+    },
+    "compared": {
+        "judge_never_worse": "one, other",
+        "never_worse_holds": "one, other, thing",
+        "first_sign": "one, other",
+        "crossings": "one, other",
+        "crossing": "one, other, number, bits",
+        "judge_by_places": "one, other",
+        "by_places_holds": "one, other, thing",
+    },
+    "pairs": {
+        "mirrored": "pair",
+        "dealt": "book, places",
+        "pairs_beside": "one, other",
+        "told_by": "pair, places",
+        "does_open": "pair, places",
+        "is_deaf": "pair, places",
+        "openers": "pair",
+        "deaf_sets": "pair",
+        "reaches": "pair",
+        "sures": "pair",
+        "reaching": "pair, j",
+        "told_chance": "pair, j",
+        "told_amount": "pair",
+    },
 }
 
 METHODS = {
     ("books", "Book"): {
         "__init__": "self, q, n, rows",
+        "__eq__": "self, other",
+        "__str__": "self",
+        "read": "text",
+    },
+    ("pairs", "Pair"): {
+        "__init__": "self, big, small",
         "__eq__": "self, other",
         "__str__": "self",
         "read": "text",
@@ -180,7 +228,8 @@ class Interface(unittest.TestCase):
                 self.assertEqual(str(inspect.signature(getattr(kind, method))), f"({parameters})", method)
 
     def test_read_is_a_class_method(self):
-        self.assertIsInstance(vars(books.Book)["read"], classmethod)
+        for kind in (books.Book, pairs.Pair):
+            self.assertIsInstance(vars(kind)["read"], classmethod)
 
 
 if __name__ == "__main__":
