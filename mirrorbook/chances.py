@@ -5,7 +5,7 @@ from mirrorbook.places import check_place
 from mirrorbook.polynomials import check_polynomial, plus, power, scaled, sum_of_all, times, value_at
 from mirrorbook.ratios import is_chance, last_fit, lowest_terms
 from mirrorbook.tableforms import is_free_at
-from mirrorbook.tables import check_table, count_places, has_place, rest_number, set_of, with_place
+from mirrorbook.tables import check_table, count_places, rest_number, set_of, with_place
 from mirrorbook.values import is_integer_from
 
 
@@ -45,8 +45,8 @@ def check_table_and_place(table, place):
 
 def sets_told_more(table, place):
     """The numbers of the sets of other places whose rank grows if the place is put into them."""
-    others = [number for number in range(len(table)) if not has_place(number, place)]
-    return [number for number in others if table[with_place(number, place)] > table[number]]
+    # A set that has the place already stays as it is.
+    return [number for number in range(len(table)) if table[with_place(number, place)] > table[number]]
 
 
 def doubt_poly(table, place):

@@ -25,9 +25,7 @@ def has_no_low_corner(polynomial, low, high):
 
 
 def judge_never_worse(one, other):
-    """A paper: parts of the difference and points between which corner numbers show that it is nowhere below 0,
-    or a chance at which it is.
-    """
+    """A paper: points between which corner numbers show that one is nowhere less, or a chance at which it is."""
     difference = minus(one, other)
     if difference == ():
         return ("never worse", (), (), (NONE_LOST, ALL_LOST))

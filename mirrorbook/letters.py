@@ -36,6 +36,11 @@ def row_times(q, letter, row):
     return tuple([letter_times(q, letter, item) for item in row])
 
 
+def row_difference(q, one, other):
+    """The row whose sum with the other one is one."""
+    return row_sum(q, one, row_times(q, letter_negative(q, 1), other))
+
+
 def row_product(q, one, other):
     """The sum of the products of the letters, place by place."""
     total = 0

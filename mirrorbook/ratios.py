@@ -42,3 +42,9 @@ def last_fit(bits, fits):
         else:
             high = middle
     return low
+
+
+def number_text(number):
+    """The text of a number in lowest terms."""
+    top, bottom = number
+    return str(top) if bottom == 1 else f"{top}/{bottom}"

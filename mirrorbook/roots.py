@@ -145,9 +145,9 @@ def corners(polynomial, low, high):
 
 
 def corner_tops(polynomial, low, high):
-    """The corner numbers, each of them times some integer above 0: for the numbers of their signs.
+    """Integers with the signs of the corner numbers.
 
-    Corner number j is multiplied by the number of ways to choose j out of the degree, and by the common bottom
+    Each is a corner number, multiplied by the number of ways to choose j out of the degree, and by the common bottom
     of low and high to the power of the degree.
     """
     bottom = lcm(low[1], high[1])

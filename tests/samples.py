@@ -6,6 +6,8 @@ from random import Random
 
 from mirrorbook import errors
 from mirrorbook.books import Book
+from mirrorbook.console import Console
+from mirrorbook.house import House
 from mirrorbook.pairs import Pair
 
 GREAT = 10**39 + 7
@@ -79,9 +81,29 @@ def any_values():
         (Book(5, 1, ()), 0),
         Pair(Book(3, 3, ((1, 0, 2), (0, 1, 2))), Book(3, 3, ((1, 1, 1),))),
         [Pair(Book(2, 1, ((1,),)), Book(2, 1, ()))],
+        House(),
+        (filled_house(), 0),
+        Console(House()),
+        ("worse", (3, 2)),
+        ("lost", (0,)),
+        ("misfit",),
+        ("mends", "e", 1),
+        ("never worse", "e", "e"),
+        (("drop", "e"),),
+        "undo",
+        "house",
         errors.BadSet((0,)),
         errors.NoMessage(),
     ]
+
+
+def filled_house():
+    """A house with a book, a pair and a promise."""
+    house = House()
+    house.change(("book", "e", Book(2, 3, ((1, 1, 0), (0, 1, 1)))))
+    house.change(("pair", "p", Pair(Book(2, 2, ((1, 0), (0, 1))), Book(2, 2, ((1, 1),)))))
+    house.change(("promise", ("mends", "e", 1)))
+    return house
 
 
 def others(fits):
@@ -144,7 +166,7 @@ def same(one, other):
         return len(one) == len(other) and all(same(a, b) for a, b in zip(one, other))
     if isinstance(one, dict):
         return same(list(one.items()), list(other.items()))
-    if isinstance(one, errors.BookError):
+    if isinstance(one, (errors.BookError, Console)):
         return same(vars(one), vars(other))
     return one == other
 

@@ -4,7 +4,7 @@ import importlib
 import inspect
 import unittest
 
-from mirrorbook import books, pairs
+from mirrorbook import books, house, pairs
 
 FUNCTIONS = {
     "fields": {
@@ -190,6 +190,27 @@ FUNCTIONS = {
         "told_chance": "pair, j",
         "told_amount": "pair",
     },
+    "sealed": {
+        "sealed": "pair, message, noise",
+        "message_of": "pair, word",
+        "noise_of": "pair, word",
+        "heard": "pair, places, hearing",
+        "judge_letter": "pair, places, wish",
+        "letter_holds": "pair, places, wish, thing",
+        "opening": "pair, places",
+        "does_tell_apart": "pair, places, one, other",
+    },
+    "questions": {
+        "is_question": "thing",
+        "judged": "question",
+        "paper_holds": "question, thing",
+        "is_told_yes": "question",
+        "turned_question": "question, order",
+        "turned_paper": "question, paper, order",
+    },
+    "house": {
+        "promise_fault_holds": "house, promise, thing",
+    },
 }
 
 METHODS = {
@@ -204,6 +225,28 @@ METHODS = {
         "__eq__": "self, other",
         "__str__": "self",
         "read": "text",
+    },
+    ("house", "House"): {
+        "__init__": "self",
+        "__eq__": "self, other",
+        "__str__": "self",
+        "read": "text",
+        "copy": "self",
+        "names": "self",
+        "book": "self, name",
+        "pair": "self, name",
+        "promises": "self",
+        "deals": "self",
+        "deal": "self, changes",
+        "change": "self, change",
+        "would": "self, changes",
+        "undo": "self",
+        "redo": "self",
+        "judged": "self, promise",
+    },
+    ("console", "Console"): {
+        "__init__": "self, house",
+        "run": "self, line",
     },
 }
 
@@ -228,7 +271,7 @@ class Interface(unittest.TestCase):
                 self.assertEqual(str(inspect.signature(getattr(kind, method))), f"({parameters})", method)
 
     def test_read_is_a_class_method(self):
-        for kind in (books.Book, pairs.Pair):
+        for kind in (books.Book, pairs.Pair, house.House):
             self.assertIsInstance(vars(kind)["read"], classmethod)
 
 
